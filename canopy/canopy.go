@@ -1,0 +1,80 @@
+// Package canopy: workspaces over stored trees of files that are fetched only where they are touched: see DOC.md.
+package canopy
+
+import (
+	"canopy/api"
+	"canopy/objects"
+)
+
+// Store holds objects; Workspace is a tree of files over one.
+type Store struct {
+	pool *objects.Pool
+}
+
+type Workspace struct{}
+
+// NewStore makes a store (P4).
+func NewStore() *Store { return &Store{pool: objects.NewPool()} }
+
+// PutFile puts a file's bytes into the store (P4).
+func (s *Store) PutFile(data string) (api.ID, api.Errno) { return s.pool.PutFile(data) }
+
+// PutDir puts a directory into the store (P4).
+func (s *Store) PutDir(l []api.Entry) (api.ID, api.Errno) { return s.pool.PutDir(l) }
+
+// GetFile gives the bytes of a file (P5).
+func (s *Store) GetFile(id api.ID) (string, api.Errno) { return s.pool.File(id) }
+
+// GetDir gives what is in a directory (P5).
+func (s *Store) GetDir(id api.ID) ([]api.Entry, api.Errno) { return s.pool.Dir(id) }
+
+// Objects tells how many objects there are (P4).
+func (s *Store) Objects() int { return s.pool.Count() }
+
+// Break lets the next fetch fail (P6).
+func (s *Store) Break(how int) api.Errno { return api.OK }
+
+// Fetched tells which objects workspaces have fetched (P6).
+func (s *Store) Fetched() []api.ID { return nil }
+
+// Checkout makes a workspace (P7).
+func (s *Store) Checkout(root api.ID) (*Workspace, api.Errno) { return nil, api.OK }
+
+// Stat tells what there is (P9).
+func (w *Workspace) Stat(path string) (api.Info, api.Errno) { return api.Info{}, api.OK }
+
+// List tells what is in a directory (P9).
+func (w *Workspace) List(path string) ([]string, api.Errno) { return nil, api.OK }
+
+// Mkdir makes a directory (P10).
+func (w *Workspace) Mkdir(path string) api.Errno { return api.OK }
+
+// Remove removes a file, or an empty directory (P10).
+func (w *Workspace) Remove(path string) api.Errno { return api.OK }
+
+// Rename gives something another path (P10).
+func (w *Workspace) Rename(from string, to string) api.Errno { return api.OK }
+
+// Open opens a file (P11).
+func (w *Workspace) Open(path string, flags int) (int, api.Errno) { return 0, api.OK }
+
+// Read reads from an open file (P12).
+func (w *Workspace) Read(file int, n int) (string, api.Errno) { return "", api.OK }
+
+// Write writes into an open file (P12).
+func (w *Workspace) Write(file int, data string) api.Errno { return api.OK }
+
+// Seek goes to a place in an open file (P12).
+func (w *Workspace) Seek(file int, at int) api.Errno { return api.OK }
+
+// Resize cuts an open file, or lengthens it (P12).
+func (w *Workspace) Resize(file int, size int) api.Errno { return api.OK }
+
+// Close closes an open file (P12).
+func (w *Workspace) Close(file int) api.Errno { return api.OK }
+
+// Status tells what has become of the files (P13).
+func (w *Workspace) Status() ([]api.Change, api.Errno) { return nil, api.OK }
+
+// Commit puts the tree into the store (P14).
+func (w *Workspace) Commit() (api.ID, api.Errno) { return 0, api.OK }
