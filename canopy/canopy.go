@@ -4,6 +4,8 @@ package canopy
 import (
 	"canopy/api"
 	"canopy/objects"
+	"canopy/paths"
+	"canopy/tree"
 )
 
 // Store holds objects; Workspace is a tree of files over one.
@@ -11,7 +13,9 @@ type Store struct {
 	pool *objects.Pool
 }
 
-type Workspace struct{}
+type Workspace struct {
+	tree *tree.Tree
+}
 
 // NewStore makes a store (P4).
 func NewStore() *Store { return &Store{pool: objects.NewPool()} }
@@ -32,28 +36,67 @@ func (s *Store) GetDir(id api.ID) ([]api.Entry, api.Errno) { return s.pool.Dir(i
 func (s *Store) Objects() int { return s.pool.Count() }
 
 // Break lets the next fetch fail (P6).
-func (s *Store) Break(how int) api.Errno { return api.OK }
+func (s *Store) Break(how int) api.Errno { return s.pool.Break(how) }
 
 // Fetched tells which objects workspaces have fetched (P6).
-func (s *Store) Fetched() []api.ID { return nil }
+func (s *Store) Fetched() []api.ID { return s.pool.Fetched() }
 
 // Checkout makes a workspace (P7).
-func (s *Store) Checkout(root api.ID) (*Workspace, api.Errno) { return nil, api.OK }
+func (s *Store) Checkout(root api.ID) (*Workspace, api.Errno) {
+	if s.pool.Kind(root) != api.Dir {
+		return nil, api.ErrObject
+	}
+	return &Workspace{tree: tree.New(s.pool, root)}, api.OK
+}
 
 // Stat tells what there is (P9).
-func (w *Workspace) Stat(path string) (api.Info, api.Errno) { return api.Info{}, api.OK }
+func (w *Workspace) Stat(path string) (api.Info, api.Errno) {
+	p, e := paths.Parse(path)
+	if e != api.OK {
+		return api.Info{}, e
+	}
+	return w.tree.Stat(p)
+}
 
 // List tells what is in a directory (P9).
-func (w *Workspace) List(path string) ([]string, api.Errno) { return nil, api.OK }
+func (w *Workspace) List(path string) ([]string, api.Errno) {
+	p, e := paths.Parse(path)
+	if e != api.OK {
+		return nil, e
+	}
+	return w.tree.List(p)
+}
 
 // Mkdir makes a directory (P10).
-func (w *Workspace) Mkdir(path string) api.Errno { return api.OK }
+func (w *Workspace) Mkdir(path string) api.Errno {
+	p, e := paths.Parse(path)
+	if e != api.OK {
+		return e
+	}
+	return w.tree.Mkdir(p)
+}
 
 // Remove removes a file, or an empty directory (P10).
-func (w *Workspace) Remove(path string) api.Errno { return api.OK }
+func (w *Workspace) Remove(path string) api.Errno {
+	p, e := paths.Parse(path)
+	if e != api.OK {
+		return e
+	}
+	return w.tree.Remove(p)
+}
 
 // Rename gives something another path (P10).
-func (w *Workspace) Rename(from string, to string) api.Errno { return api.OK }
+func (w *Workspace) Rename(from string, to string) api.Errno {
+	source, e := paths.Parse(from)
+	if e != api.OK {
+		return e
+	}
+	target, e := paths.Parse(to)
+	if e != api.OK {
+		return e
+	}
+	return w.tree.Rename(source, target)
+}
 
 // Open opens a file (P11).
 func (w *Workspace) Open(path string, flags int) (int, api.Errno) { return 0, api.OK }

@@ -1,6 +1,7 @@
 package canopy
 
 import (
+	"slices"
 	"strconv"
 	"testing"
 
@@ -71,5 +72,67 @@ func fill(t *testing.T, s *Store, n int) {
 	t.Helper()
 	for i := 0; s.Objects() < n; i++ {
 		putFile(t, s, "filler "+strconv.Itoa(i))
+	}
+}
+
+func checkout(t *testing.T, s *Store, root api.ID) *Workspace {
+	t.Helper()
+	w, e := s.Checkout(root)
+	if e != api.OK || w == nil {
+		t.Fatalf("Checkout(%d) = %v, %d", root, w, e)
+	}
+	return w
+}
+
+// document makes the store of the document's examples, and answers its objects A, D and R.
+func document(t *testing.T) (s *Store, a, d, r api.ID) {
+	t.Helper()
+	s = NewStore()
+	a = putFile(t, s, "abc")
+	d = putDir(t, s, file("x", a))
+	return s, a, d, putDir(t, s, file("a", a), dir("d", d))
+}
+
+func wantStat(t *testing.T, w *Workspace, path string, kind, size int) {
+	t.Helper()
+	if info, e := w.Stat(path); info != (api.Info{Kind: kind, Size: size}) || e != api.OK {
+		t.Errorf("Stat(%q) = %+v, %d, want %d, %d", path, info, e, kind, size)
+	}
+}
+
+func wantList(t *testing.T, w *Workspace, path string, names ...string) {
+	t.Helper()
+	if l, e := w.List(path); !slices.Equal(l, names) || e != api.OK {
+		t.Errorf("List(%q) = %q, %d, want %q", path, l, e, names)
+	}
+}
+
+// refuseStat and refuseList want an error, and nothing beside it.
+func refuseStat(t *testing.T, w *Workspace, path string, want api.Errno) {
+	t.Helper()
+	if info, e := w.Stat(path); info != (api.Info{}) || e != want {
+		t.Errorf("Stat(%q) = %+v, %d, want error %d", path, info, e, want)
+	}
+}
+
+func refuseList(t *testing.T, w *Workspace, path string, want api.Errno) {
+	t.Helper()
+	if l, e := w.List(path); len(l) != 0 || e != want {
+		t.Errorf("List(%q) = %q, %d, want error %d", path, l, e, want)
+	}
+}
+
+func wantFetched(t *testing.T, s *Store, ids ...api.ID) {
+	t.Helper()
+	if got := s.Fetched(); !slices.Equal(got, ids) {
+		t.Errorf("Fetched() = %v, want %v", got, ids)
+	}
+}
+
+// want wants an error, or none.
+func want(t *testing.T, what string, e, want api.Errno) {
+	t.Helper()
+	if e != want {
+		t.Errorf("%s = %d, want %d", what, e, want)
 	}
 }

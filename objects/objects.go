@@ -9,9 +9,11 @@ import (
 
 // Pool holds objects; the object of the ID n is the n-th that came.
 type Pool struct {
-	all   []object
-	files map[string]api.ID
-	dirs  map[listing]api.ID
+	all     []object
+	files   map[string]api.ID
+	dirs    map[listing]api.ID
+	fetched []api.ID
+	broken  bool // the next fetch fails
 }
 
 // object is a file's bytes, or a directory's entries by rising names.
@@ -70,7 +72,7 @@ func (p *Pool) PutDir(l []api.Entry) (api.ID, api.Errno) {
 
 // File gives the bytes of a file.
 func (p *Pool) File(id api.ID) (string, api.Errno) {
-	if p.kind(id) != api.File {
+	if p.Kind(id) != api.File {
 		return "", api.ErrObject
 	}
 	return p.at(id).data, api.OK
@@ -78,7 +80,7 @@ func (p *Pool) File(id api.ID) (string, api.Errno) {
 
 // Dir gives the entries of a directory, by rising names.
 func (p *Pool) Dir(id api.ID) ([]api.Entry, api.Errno) {
-	if p.kind(id) != api.Dir {
+	if p.Kind(id) != api.Dir {
 		return nil, api.ErrObject
 	}
 	entries := p.at(id).entries
@@ -87,15 +89,26 @@ func (p *Pool) Dir(id api.ID) ([]api.Entry, api.Errno) {
 	return answer, api.OK
 }
 
+// Kind tells of what kind an object is: 0, where there is none.
+func (p *Pool) Kind(id api.ID) int {
+	if id < 1 || id > api.ID(len(p.all)) {
+		return 0
+	}
+	return p.at(id).kind
+}
+
+// Height tells how many stand one below the other in an object that is there.
+func (p *Pool) Height(id api.ID) int { return p.at(id).height }
+
 // measure tells how many stand one below the other in a directory of these entries.
 func (p *Pool) measure(entries []api.Entry) (int, api.Errno) {
 	height := 0
 	for _, entry := range entries {
-		kind := p.kind(entry.ID)
+		kind := p.Kind(entry.ID)
 		if kind == 0 || kind != entry.Kind {
 			return 0, api.ErrObject
 		}
-		height = max(height, 1+p.at(entry.ID).height)
+		height = max(height, 1+p.Height(entry.ID))
 	}
 	if height > api.MaxDepth {
 		return 0, api.ErrFull
@@ -110,14 +123,6 @@ func (p *Pool) add(o object) (api.ID, api.Errno) {
 	}
 	p.all = append(p.all, o)
 	return api.ID(len(p.all)), api.OK
-}
-
-// kind answers 0 where there is no object.
-func (p *Pool) kind(id api.ID) int {
-	if id < 1 || id > api.ID(len(p.all)) {
-		return 0
-	}
-	return p.at(id).kind
 }
 
 // at is asked only for objects that are there.
