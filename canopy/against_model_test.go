@@ -1,6 +1,7 @@
 package canopy
 
 import (
+	"fmt"
 	"slices"
 	"strings"
 	"testing"
@@ -63,7 +64,7 @@ func (p *pair) insist(t *testing.T, c call) {
 		if p.call(t, c) != api.ErrStore {
 			return
 		}
-		p.call(t, call{name: "Stat", path: step})
+		p.call(t, at("Stat", step))
 	}
 	p.call(t, c)
 }
@@ -78,14 +79,30 @@ func heads(path string) []string {
 	return all
 }
 
-// walk looks at everything that is there.
+// walk looks at everything that is there, and into every file.
 func (p *pair) walk(t *testing.T, path string, x *thing) {
 	t.Helper()
-	p.call(t, call{name: "Stat", path: path})
-	p.call(t, call{name: "List", path: path})
+	p.call(t, at("Stat", path))
+	p.call(t, at("List", path))
 	for _, name := range x.names() {
 		p.walk(t, strings.TrimPrefix(path+"/"+name, "/"), x.inner[name])
 	}
+	if number := slices.Index(p.m.open[:], nil); x.inner == nil && p.call(t, opening(path, api.Read)) == api.OK {
+		p.call(t, reading(number, 300))
+		p.call(t, onFile("Close", number, 0))
+	}
+}
+
+// finish looks at all that is open, and at all that is there.
+func (p *pair) finish(t *testing.T) {
+	t.Helper()
+	for number := range 8 {
+		p.call(t, reading(number, 1))
+		p.call(t, onFile("Seek", number, 0))
+		p.call(t, reading(number, 300))
+		p.call(t, onFile("Close", number, 0))
+	}
+	p.walk(t, "", p.m.root)
 }
 
 // dice: numbers that are the same in every run.
@@ -118,7 +135,7 @@ func someStore(t *testing.T, d *dice, great int) (*Store, []api.ID) {
 	t.Helper()
 	s := NewStore()
 	empty := putDir(t, s)
-	all := []api.Entry{file("", putFile(t, s, "")), file("", putFile(t, s, "abc")), dir("", empty), dir("", empty)}
+	all := []api.Entry{file("", putFile(t, s, "")), file("", putFile(t, s, "abc")), file("", putFile(t, s, strings.Repeat("abc", 85))), dir("", empty), dir("", empty)}
 	roots, sizes := []api.ID{empty}, map[api.ID]int{}
 	for range 20 {
 		n := 1 + d.roll(4)
@@ -138,32 +155,82 @@ func someStore(t *testing.T, d *dice, great int) (*Store, []api.ID) {
 	return s, roots[max(0, len(roots)-6):]
 }
 
-// P3, P6 to P10, P15: workspaces of one store, with failing fetches in between, answer what a tree would that had been copied out whole, and fetch just what is wanted, once.
+// someFlags answers flags, now and then such as are none.
+func someFlags(d *dice) int {
+	if d.roll(10) == 0 {
+		return d.roll(70) - 3
+	}
+	flags := []int{api.Read, api.Write, api.Read + api.Write, api.Read + api.Write + api.Create}[d.roll(4)]
+	if flags != api.Read {
+		flags += []int{0, 0, api.Truncate, api.Append, api.Truncate + api.Append}[d.roll(5)]
+	}
+	return flags
+}
+
+// someCall makes a call that may do something, or nothing.
+func someCall(d *dice, m *model) call {
+	names := []string{
+		"Stat", "List", "Mkdir", "Mkdir", "Remove", "Rename", "Rename", "Rename",
+		"Open", "Open", "Open", "Read", "Read", "Write", "Write", "Seek", "Resize", "Close",
+	}
+	c := call{name: names[d.roll(len(names))]}
+	switch c.name {
+	case "Rename":
+		c.path, c.to = somePath(d, m.root), somePath(d, m.root)
+	case "Stat", "List", "Mkdir", "Remove":
+		c.path = somePath(d, m.root)
+	case "Open":
+		c.path, c.n = somePath(d, m.root), someFlags(d)
+	default:
+		c.file = d.roll(4)
+		if d.roll(4) == 0 {
+			c.file = d.roll(10) - 1
+		}
+		c.n = []int{0, 1, 2, 3, d.roll(258), 256, 257 - d.roll(300)}[d.roll(7)]
+	}
+	if c.name == "Write" {
+		c.data = strings.Repeat("wxyz", 65)[d.roll(4):][:[]int{0, 1, 2, 3, 5, d.roll(257), 256, 257}[d.roll(8)]]
+		c.n = 0
+	}
+	return c
+}
+
+// P3, P6 to P12, P15: workspaces of one store, with failing fetches in between, answer what a tree would that had been copied out whole, and fetch just what is wanted, once.
 func TestModelRandom(t *testing.T) {
-	names := []string{"Stat", "List", "Mkdir", "Mkdir", "Remove", "Rename", "Rename", "Rename"}
 	for seed := range 300 {
 		d := dice(seed)
 		s, roots := someStore(t, &d, []int{4, 20, 1000}[seed%3])
+		stored := everything(s)
 		broken := false
 		var all []*pair
 		for range 3 {
 			all = append(all, newPair(t, s, roots[d.roll(len(roots))], &broken))
 		}
-		for range 300 {
+		for range 500 {
 			p := all[d.roll(len(all))]
 			if d.roll(3) == 0 {
 				p.breakNext(t, 1+d.roll(2))
 			}
-			c := call{name: names[d.roll(len(names))], path: somePath(&d, p.m.root)}
-			if c.name == "Rename" {
-				c.to = somePath(&d, p.m.root)
-			}
-			p.call(t, c)
+			p.call(t, someCall(&d, p.m))
 		}
 		for _, p := range all {
-			p.walk(t, "", p.m.root)
+			p.finish(t)
+		}
+		if now := everything(s); now != stored {
+			t.Errorf("the store became %q, was %q", now, stored)
 		}
 	}
+}
+
+// everything tells all that is in a store, as one text.
+func everything(s *Store) string {
+	var all strings.Builder
+	for id := range api.ID(s.Objects() + 2) {
+		data, e := s.GetFile(id)
+		l, f := s.GetDir(id)
+		fmt.Fprintln(&all, id, data, e, l, f)
+	}
+	return all.String()
 }
 
 // severalStore puts a tree with everything in it that a call may meet.
@@ -191,9 +258,14 @@ func severalPaths() []string {
 // P3, P8 to P10: every call at every one of these paths, with each fetch that it needs failing once, and then everything there is.
 func TestModelEveryPath(t *testing.T) {
 	for _, from := range severalPaths() {
-		calls := []call{{"Stat", from, ""}, {"List", from, ""}, {"Mkdir", from, ""}, {"Remove", from, ""}}
+		calls := []call{at("Stat", from), at("List", from), at("Mkdir", from), at("Remove", from)}
 		for _, to := range severalPaths() {
-			calls = append(calls, call{"Rename", from, to})
+			calls = append(calls, rename(from, to))
+		}
+		for flags := range 64 {
+			if flagsFit(flags) {
+				calls = append(calls, opening(from, flags))
+			}
 		}
 		for _, c := range calls {
 			s, root := severalStore(t)
@@ -205,8 +277,48 @@ func TestModelEveryPath(t *testing.T) {
 			} {
 				p := newPair(t, s, root, &broken)
 				do(p)
-				p.walk(t, "", p.m.root)
+				p.finish(t)
 			}
 		}
+	}
+}
+
+// fileCalls are calls at and behind the edges of a file of 3 bytes.
+func fileCalls() []call {
+	var calls []call
+	for _, n := range []int{-1, 0, 1, 2, 3, 4, 255, 256, 257} {
+		calls = append(calls, reading(0, n), onFile("Seek", 0, n), onFile("Resize", 0, n), writing(0, strings.Repeat("x", max(0, n))))
+	}
+	return append(calls, onFile("Close", 0, 0), reading(1, 1), writing(1, "y"))
+}
+
+// P3, P8, P11, P12: every one of these calls on a file opened so and so, at a place, that was touched or not, and has met one of the fates that a file may meet; with its fetch failing first.
+func TestModelOpenFile(t *testing.T) {
+	touches := [][]call{nil, {reading(1, 1)}, {writing(1, "z")}, {at("Stat", "d/x")}, {opening("d/x", api.Write+api.Truncate)}}
+	fates := [][]call{nil, {at("Remove", "d/x")}, {rename("d/x", "n")}, {rename("d", "n")}, {rename("a", "d/x")}, {rename("d/x", "a")}, {at("Remove", "d/x"), opening("d/x", both+api.Create)}}
+	for _, flags := range []int{api.Read, api.Write, both, api.Write + api.Append, both + api.Append, both + api.Truncate, both + api.Append + api.Create} {
+		for _, touch := range touches {
+			for _, fate := range fates {
+				for _, place := range []int{0, 2, 3, 5, 256} {
+					setup := append([]call{opening("d/x", flags), opening("d/x", both)}, touch...)
+					setup = append(append(setup, fate...), onFile("Seek", 0, place))
+					againstModel(t, setup, fileCalls())
+				}
+			}
+		}
+	}
+}
+
+// againstModel does each of the calls after the setup, in a store of its own.
+func againstModel(t *testing.T, setup, calls []call) {
+	t.Helper()
+	for _, c := range calls {
+		s, _, _, r := document(t)
+		p := newPair(t, s, r, new(bool))
+		for _, before := range setup {
+			p.call(t, before)
+		}
+		p.insist(t, c)
+		p.finish(t)
 	}
 }

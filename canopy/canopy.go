@@ -3,6 +3,7 @@ package canopy
 
 import (
 	"canopy/api"
+	"canopy/files"
 	"canopy/objects"
 	"canopy/paths"
 	"canopy/tree"
@@ -15,6 +16,7 @@ type Store struct {
 
 type Workspace struct {
 	tree *tree.Tree
+	open files.Table
 }
 
 // NewStore makes a store (P4).
@@ -99,22 +101,64 @@ func (w *Workspace) Rename(from string, to string) api.Errno {
 }
 
 // Open opens a file (P11).
-func (w *Workspace) Open(path string, flags int) (int, api.Errno) { return 0, api.OK }
+func (w *Workspace) Open(path string, flags int) (int, api.Errno) {
+	p, e := paths.Parse(path)
+	if e != api.OK {
+		return 0, e
+	}
+	if !files.Valid(flags) {
+		return 0, api.ErrFlags
+	}
+	number, e := w.open.Free()
+	if e != api.OK {
+		return 0, e
+	}
+	file, e := w.tree.Open(p, flags)
+	if e != api.OK {
+		return 0, e
+	}
+	w.open.Put(number, file, flags)
+	return number, api.OK
+}
 
 // Read reads from an open file (P12).
-func (w *Workspace) Read(file int, n int) (string, api.Errno) { return "", api.OK }
+func (w *Workspace) Read(file int, n int) (string, api.Errno) {
+	opened, e := w.open.At(file)
+	if e != api.OK {
+		return "", e
+	}
+	return opened.Read(n)
+}
 
 // Write writes into an open file (P12).
-func (w *Workspace) Write(file int, data string) api.Errno { return api.OK }
+func (w *Workspace) Write(file int, data string) api.Errno {
+	opened, e := w.open.At(file)
+	if e != api.OK {
+		return e
+	}
+	return opened.Write(data)
+}
 
 // Seek goes to a place in an open file (P12).
-func (w *Workspace) Seek(file int, at int) api.Errno { return api.OK }
+func (w *Workspace) Seek(file int, at int) api.Errno {
+	opened, e := w.open.At(file)
+	if e != api.OK {
+		return e
+	}
+	return opened.Seek(at)
+}
 
 // Resize cuts an open file, or lengthens it (P12).
-func (w *Workspace) Resize(file int, size int) api.Errno { return api.OK }
+func (w *Workspace) Resize(file int, size int) api.Errno {
+	opened, e := w.open.At(file)
+	if e != api.OK {
+		return e
+	}
+	return opened.Resize(size)
+}
 
 // Close closes an open file (P12).
-func (w *Workspace) Close(file int) api.Errno { return api.OK }
+func (w *Workspace) Close(file int) api.Errno { return w.open.Close(file) }
 
 // Status tells what has become of the files (P13).
 func (w *Workspace) Status() ([]api.Change, api.Errno) { return nil, api.OK }

@@ -6,6 +6,7 @@ import (
 	"strconv"
 	"strings"
 	"testing"
+	"unsafe"
 
 	"canopy/api"
 )
@@ -194,5 +195,41 @@ func TestP2Stores(t *testing.T) {
 	}
 	if data, e := three.GetFile(1); data != "filler 0" || e != api.OK {
 		t.Errorf("GetFile(1) = %q, %d", data, e)
+	}
+}
+
+// P2: a text that is handed in is not kept: what becomes of its memory later is not seen.
+func TestP2TextsIn(t *testing.T) {
+	s, a, _, _ := document(t)
+	var lent [][]byte
+	lend := func(text string) string {
+		memory := []byte(text)
+		lent = append(lent, memory)
+		return unsafe.String(unsafe.SliceData(memory), len(memory))
+	}
+	r := putDir(t, s, file(lend("a"), a), file(lend("f"), putFile(t, s, lend("file"))), dir(lend("d"), putDir(t, s)))
+	w := checkout(t, s, r)
+	want(t, "Mkdir", w.Mkdir(lend("d/k")), api.OK)
+	want(t, "Rename", w.Rename(lend("a"), lend("d/k/b")), api.OK)
+	for number, path := range []string{"n", "d/m", "d/k/b"} {
+		wantOpen(t, w, lend(path), both+api.Create, number)
+		want(t, "Write", w.Write(number, lend("written")), api.OK)
+	}
+	want(t, "Resize", w.Resize(1, 3), api.OK)
+	want(t, "Write", w.Write(1, lend("")), api.OK)
+	for _, memory := range lent {
+		clear(memory)
+	}
+	wantList(t, w, "", "d", "f", "n")
+	wantList(t, w, "d", "k", "m")
+	wantList(t, w, "d/k", "b")
+	for path, bytes := range map[string]string{"f": "file", "n": "written", "d/m": "wri", "d/k/b": "written"} {
+		wantFile(t, w, path, bytes)
+	}
+	if l := getDir(t, s, r); !slices.Equal(l, []api.Entry{file("a", a), dir("d", l[1].ID), file("f", l[2].ID)}) {
+		t.Errorf("the stored directory: %v", l)
+	}
+	if id := putFile(t, s, "file"); id != getDir(t, s, r)[2].ID {
+		t.Errorf("the stored file is another one: %d", id)
 	}
 }

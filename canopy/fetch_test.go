@@ -191,40 +191,55 @@ func TestP8What(t *testing.T) {
 		e       api.Errno
 		fetched []string
 	}{
-		{call{"Stat", "", ""}, api.OK, []string{""}},
-		{call{"Stat", "d", ""}, api.OK, []string{"", "d"}},
-		{call{"Stat", "d/g", ""}, api.OK, []string{"", "d", "d/g"}},
-		{call{"Stat", "d/e/f", ""}, api.OK, []string{"", "d", "d/e", "d/e/f"}},
-		{call{"Stat", "d/e/n", ""}, api.ErrNone, []string{"", "d", "d/e"}},
-		{call{"Stat", "n/e/f", ""}, api.ErrNone, []string{""}},
-		{call{"Stat", "d/g/f", ""}, api.ErrNotDir, []string{"", "d"}},
-		{call{"Stat", "d/e/", ""}, api.ErrPath, nil},
-		{call{"List", "", ""}, api.OK, []string{""}},
-		{call{"List", "d/e", ""}, api.OK, []string{"", "d", "d/e"}},
-		{call{"List", "d/g", ""}, api.ErrNotDir, []string{"", "d"}},
-		{call{"List", "/", ""}, api.ErrPath, nil},
-		{call{"Mkdir", "", ""}, api.ErrExists, nil},
-		{call{"Mkdir", "n", ""}, api.OK, []string{""}},
-		{call{"Mkdir", "d", ""}, api.ErrExists, []string{""}},
-		{call{"Mkdir", "d/e/n", ""}, api.OK, []string{"", "d", "d/e"}},
-		{call{"Mkdir", "d/g/n", ""}, api.ErrNotDir, []string{"", "d"}},
-		{call{"Remove", "", ""}, api.ErrInside, nil},
-		{call{"Remove", "d/g", ""}, api.OK, []string{"", "d"}},
-		{call{"Remove", "d/e", ""}, api.ErrNotEmpty, []string{"", "d", "d/e"}},
-		{call{"Remove", "l", ""}, api.OK, []string{"", "l"}},
-		{call{"Rename", "", "d"}, api.ErrInside, nil},
-		{call{"Rename", "d", ""}, api.ErrInside, nil},
-		{call{"Rename", "d", "d"}, api.OK, []string{""}},
-		{call{"Rename", "d", "d/n"}, api.ErrInside, []string{""}},
-		{call{"Rename", "d", "n"}, api.OK, []string{""}},
-		{call{"Rename", "d", "h/n"}, api.OK, []string{"", "h"}},
-		{call{"Rename", "d/e", "h/n"}, api.OK, []string{"", "d", "h"}},
-		{call{"Rename", "d/e", "h/i"}, api.ErrNotDir, []string{"", "d", "h"}},
-		{call{"Rename", "d/e", "l"}, api.OK, []string{"", "d", "l"}},
-		{call{"Rename", "d/e", "h"}, api.ErrNotEmpty, []string{"", "d", "h"}},
-		{call{"Rename", "d/g", "h/i"}, api.OK, []string{"", "d", "h"}},
-		{call{"Rename", "d/g", "h"}, api.ErrDir, []string{"", "d"}},
-		{call{"Rename", "n/g", "h/i"}, api.ErrNone, []string{""}},
+		{at("Stat", ""), api.OK, []string{""}},
+		{at("Stat", "d"), api.OK, []string{"", "d"}},
+		{at("Stat", "d/g"), api.OK, []string{"", "d", "d/g"}},
+		{at("Stat", "d/e/f"), api.OK, []string{"", "d", "d/e", "d/e/f"}},
+		{at("Stat", "d/e/n"), api.ErrNone, []string{"", "d", "d/e"}},
+		{at("Stat", "n/e/f"), api.ErrNone, []string{""}},
+		{at("Stat", "d/g/f"), api.ErrNotDir, []string{"", "d"}},
+		{at("Stat", "d/e/"), api.ErrPath, nil},
+		{at("List", ""), api.OK, []string{""}},
+		{at("List", "d/e"), api.OK, []string{"", "d", "d/e"}},
+		{at("List", "d/g"), api.ErrNotDir, []string{"", "d"}},
+		{at("List", "/"), api.ErrPath, nil},
+		{at("Mkdir", ""), api.ErrExists, nil},
+		{at("Mkdir", "n"), api.OK, []string{""}},
+		{at("Mkdir", "d"), api.ErrExists, []string{""}},
+		{at("Mkdir", "d/e/n"), api.OK, []string{"", "d", "d/e"}},
+		{at("Mkdir", "d/g/n"), api.ErrNotDir, []string{"", "d"}},
+		{at("Remove", ""), api.ErrInside, nil},
+		{at("Remove", "d/g"), api.OK, []string{"", "d"}},
+		{at("Remove", "d/e"), api.ErrNotEmpty, []string{"", "d", "d/e"}},
+		{at("Remove", "l"), api.OK, []string{"", "l"}},
+		{rename("", "d"), api.ErrInside, nil},
+		{rename("d", ""), api.ErrInside, nil},
+		{rename("d", "d"), api.OK, []string{""}},
+		{rename("d", "d/n"), api.ErrInside, []string{""}},
+		{rename("d", "n"), api.OK, []string{""}},
+		{rename("d", "h/n"), api.OK, []string{"", "h"}},
+		{rename("d/e", "h/n"), api.OK, []string{"", "d", "h"}},
+		{rename("d/e", "h/i"), api.ErrNotDir, []string{"", "d", "h"}},
+		{rename("d/e", "l"), api.OK, []string{"", "d", "l"}},
+		{rename("d/e", "h"), api.ErrNotEmpty, []string{"", "d", "h"}},
+		{rename("d/g", "h/i"), api.OK, []string{"", "d", "h"}},
+		{rename("d/g", "h"), api.ErrDir, []string{"", "d"}},
+		{rename("n/g", "h/i"), api.ErrNone, []string{""}},
+		{opening("d/", api.Read), api.ErrPath, nil},
+		{opening("d/g", 0), api.ErrFlags, nil},
+		{opening("", api.Read), api.ErrDir, nil},
+		{opening("d", api.Read), api.ErrDir, []string{""}},
+		{opening("d/e", both+api.Create), api.ErrDir, []string{"", "d"}},
+		{opening("n", api.Read), api.ErrNone, []string{""}},
+		{opening("n/n", both+api.Create), api.ErrNone, []string{""}},
+		{opening("d/g/n", both+api.Create), api.ErrNotDir, []string{"", "d"}},
+		{opening("d/g", api.Read), api.OK, []string{"", "d"}},
+		{opening("d/e/f", both+api.Append), api.OK, []string{"", "d", "d/e"}},
+		{opening("d/e/f", both+api.Truncate), api.OK, []string{"", "d", "d/e"}},
+		{opening("d/e/f", both+api.Create), api.OK, []string{"", "d", "d/e"}},
+		{opening("d/e/f", both+api.Create+api.Exclusive), api.ErrExists, []string{"", "d", "d/e"}},
+		{opening("d/e/n", both+api.Create+api.Exclusive), api.OK, []string{"", "d", "d/e"}},
+		{opening("l/n", both+api.Create), api.OK, []string{"", "l"}},
 	} {
 		s, ids := branches(t)
 		var fetched []api.ID
@@ -302,9 +317,11 @@ func TestP8Height(t *testing.T) {
 func TestP3Failures(t *testing.T) {
 	for _, how := range []int{api.Missing, api.Spoiled} {
 		for _, c := range []call{
-			{"Stat", "d/e/f", ""}, {"Stat", "d/e", ""}, {"List", "d/e", ""}, {"Mkdir", "d/e/n", ""}, {"Remove", "d/e/f", ""}, {"Remove", "l", ""},
-			{"Rename", "d/g", "h/i"}, {"Rename", "d/e", "l"}, {"Rename", "k/f", "k/g"},
-			{"Stat", "d/g/n", ""}, {"List", "d/g", ""}, {"Mkdir", "d/g", ""}, {"Remove", "d", ""}, {"Rename", "d/e", "h"}, {"Rename", "d/n", "h/n"}, {"Rename", "d/e", "n/n"},
+			at("Stat", "d/e/f"), at("Stat", "d/e"), at("List", "d/e"), at("Mkdir", "d/e/n"), at("Remove", "d/e/f"), at("Remove", "l"),
+			rename("d/g", "h/i"), rename("d/e", "l"), rename("k/f", "k/g"),
+			opening("d/g", api.Read), opening("d/e/f", both+api.Truncate), opening("d/e/n", both+api.Create), opening("l/n", both+api.Create+api.Exclusive),
+			opening("d", api.Read), opening("n", api.Read), opening("d/g/n", both+api.Create), opening("d/g", both+api.Create+api.Exclusive),
+			at("Stat", "d/g/n"), at("List", "d/g"), at("Mkdir", "d/g"), at("Remove", "d"), rename("d/e", "h"), rename("d/n", "h/n"), rename("d/e", "n/n"),
 		} {
 			s, ids := branches(t)
 			calm := perform(checkout(t, s, ids[""]), c)
@@ -332,6 +349,10 @@ func TestP3NoFetch(t *testing.T) {
 	want(t, "Remove", w.Remove(""), api.ErrInside)
 	want(t, "Rename", w.Rename("a", ""), api.ErrInside)
 	want(t, "Rename", w.Rename("a", "."), api.ErrPath)
+	refuseOpen(t, w, "a/", both, api.ErrPath)
+	refuseOpen(t, w, "a", api.Create, api.ErrFlags)
+	refuseOpen(t, w, "", both, api.ErrDir)
+	refuseRead(t, w, 0, 1, api.ErrFile)
 	refuseStat(t, w, "", api.ErrStore)
 	wantStat(t, w, "", api.Dir, 2)
 }

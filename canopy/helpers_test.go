@@ -136,3 +136,51 @@ func want(t *testing.T, what string, e, want api.Errno) {
 		t.Errorf("%s = %d, want %d", what, e, want)
 	}
 }
+
+const both = api.Read + api.Write
+
+func wantOpen(t *testing.T, w *Workspace, path string, flags, number int) {
+	t.Helper()
+	if n, e := w.Open(path, flags); n != number || e != api.OK {
+		t.Errorf("Open(%q, %d) = %d, %d, want %d", path, flags, n, e, number)
+	}
+}
+
+func wantRead(t *testing.T, w *Workspace, file, n int, data string) {
+	t.Helper()
+	if got, e := w.Read(file, n); got != data || e != api.OK {
+		t.Errorf("Read(%d, %d) = %q, %d, want %q", file, n, got, e, data)
+	}
+}
+
+// wantBytes wants a file to have these bytes, by what has it open.
+func wantBytes(t *testing.T, w *Workspace, file int, data string) {
+	t.Helper()
+	want(t, "Seek", w.Seek(file, 0), api.OK)
+	wantRead(t, w, file, 300, data)
+}
+
+// wantFile wants a file with these bytes to be at a path.
+func wantFile(t *testing.T, w *Workspace, path string, data string) {
+	t.Helper()
+	wantStat(t, w, path, api.File, len(data))
+	number, e := w.Open(path, api.Read)
+	want(t, "Open of "+path, e, api.OK)
+	wantRead(t, w, number, 300, data)
+	want(t, "Close", w.Close(number), api.OK)
+}
+
+// refuseOpen and refuseRead want an error, and nothing beside it.
+func refuseOpen(t *testing.T, w *Workspace, path string, flags int, want api.Errno) {
+	t.Helper()
+	if n, e := w.Open(path, flags); n != 0 || e != want {
+		t.Errorf("Open(%q, %d) = %d, %d, want error %d", path, flags, n, e, want)
+	}
+}
+
+func refuseRead(t *testing.T, w *Workspace, file, n int, want api.Errno) {
+	t.Helper()
+	if data, e := w.Read(file, n); data != "" || e != want {
+		t.Errorf("Read(%d, %d) = %q, %d, want error %d", file, n, data, e, want)
+	}
+}

@@ -10,8 +10,8 @@ import (
 
 // thing is what is at a path of a model: a workspace whose base has been copied out whole (P15).
 type thing struct {
-	id    api.ID            // the object that it was copied from; 0: none
-	size  int               // of a file
+	id    api.ID            // the object that it was copied from; 0: none, or a file that was changed since
+	data  string            // of a file
 	inner map[string]*thing // nil: a file
 }
 
@@ -47,7 +47,7 @@ func copyOut(t *testing.T, s *Store, entry api.Entry) *thing {
 		if e != api.OK {
 			t.Fatalf("GetFile(%d): %d", entry.ID, e)
 		}
-		return &thing{id: entry.ID, size: len(data)}
+		return &thing{id: entry.ID, data: data}
 	}
 	x := &thing{id: entry.ID, inner: map[string]*thing{}}
 	for _, inner := range getDir(t, s, entry.ID) {
@@ -59,17 +59,30 @@ func copyOut(t *testing.T, s *Store, entry api.Entry) *thing {
 // model tells what a workspace must answer, and what it must have fetched for that.
 type model struct {
 	root   *thing
+	open   [8]*hand
 	known  map[api.ID]bool // fetched by calls ahead
 	wanted []api.ID        // to be fetched by this call, in that order
 }
 
-// call is one of the calls of a workspace; to is of Rename alone.
-type call struct{ name, path, to string }
+// call is one of the calls of a workspace; n is its flags, or its other number.
+type call struct {
+	name, path, to, data string
+	file, n              int
+}
+
+func at(name, path string) call            { return call{name: name, path: path} }
+func rename(from, to string) call          { return call{name: "Rename", path: from, to: to} }
+func opening(path string, flags int) call  { return call{name: "Open", path: path, n: flags} }
+func reading(file, n int) call             { return call{name: "Read", file: file, n: n} }
+func writing(file int, data string) call   { return call{name: "Write", file: file, data: data} }
+func onFile(name string, file, n int) call { return call{name: name, file: file, n: n} }
 
 // answer is what a call answers, in one value that can be compared.
 type answer struct {
 	info  api.Info
 	names string
+	file  int
+	data  string
 	e     api.Errno
 }
 
@@ -88,6 +101,18 @@ func perform(w *Workspace, c call) answer {
 		a.e = w.Remove(c.path)
 	case "Rename":
 		a.e = w.Rename(c.path, c.to)
+	case "Open":
+		a.file, a.e = w.Open(c.path, c.n)
+	case "Read":
+		a.data, a.e = w.Read(c.file, c.n)
+	case "Write":
+		a.e = w.Write(c.file, c.data)
+	case "Seek":
+		a.e = w.Seek(c.file, c.n)
+	case "Resize":
+		a.e = w.Resize(c.file, c.n)
+	case "Close":
+		a.e = w.Close(c.file)
 	}
 	return a
 }
@@ -112,6 +137,20 @@ func (m *model) expect(c call) (answer, func()) {
 		a.e, do = m.remove(path)
 	case c.name == "Rename":
 		a.e, do = m.rename(path, to)
+	case c.name == "Open":
+		a, do = m.opened(path, c.n)
+	case c.file < 0 || c.file > 7 || m.open[c.file] == nil:
+		a.e = api.ErrFile
+	case c.name == "Read":
+		a, do = m.read(m.open[c.file], c.n)
+	case c.name == "Write":
+		a.e, do = m.write(m.open[c.file], c.data)
+	case c.name == "Seek":
+		a.e, do = m.seek(m.open[c.file], c.n)
+	case c.name == "Resize":
+		a.e, do = m.resize(m.open[c.file], c.n)
+	case c.name == "Close":
+		do = func() { m.open[c.file] = nil }
 	}
 	return a, do
 }
@@ -169,7 +208,7 @@ func (m *model) stat(l []string) answer {
 		return answer{e: e}
 	}
 	m.want(x)
-	return answer{info: api.Info{Kind: x.kind(), Size: x.size + len(x.inner)}}
+	return answer{info: api.Info{Kind: x.kind(), Size: len(x.data) + len(x.inner)}}
 }
 
 func (m *model) list(l []string) answer {

@@ -52,6 +52,9 @@ func TestP1AnyPath(t *testing.T) {
 		refuseList(t, w, path, api.ErrPath)
 		want(t, "Mkdir", w.Mkdir(path), api.ErrPath)
 		want(t, "Remove", w.Remove(path), api.ErrPath)
+		for flags := -1; flags <= 64; flags++ {
+			refuseOpen(t, w, path, flags, api.ErrPath)
+		}
 		for _, other := range []string{"", "a", "d", "n", "n/n", path} {
 			want(t, "Rename", w.Rename(path, other), api.ErrPath)
 			want(t, "Rename", w.Rename(other, path), api.ErrPath)

@@ -23,7 +23,7 @@ func (t *Tree) Mkdir(p paths.Path) api.Errno {
 		return api.ErrFull
 	}
 	t.put(p, api.Entry{Kind: api.Dir})
-	t.own[p] = nil
+	t.ownDirs[p] = nil
 	return api.OK
 }
 
@@ -40,7 +40,7 @@ func (t *Tree) Remove(p paths.Path) api.Errno {
 		return e
 	}
 	t.take(p)
-	delete(t.own, p)
+	t.forget(p)
 	return api.OK
 }
 
@@ -68,7 +68,8 @@ func (t *Tree) Rename(from, to paths.Path) api.Errno {
 	}
 	t.take(from)
 	t.put(to, moving)
-	t.carry(from, to)
+	carry(t.ownFiles, from, to)
+	carry(t.ownDirs, from, to)
 	return api.OK
 }
 
@@ -113,7 +114,7 @@ func (t *Tree) height(p paths.Path, here api.Entry) int {
 		return t.pool.Height(here.ID)
 	}
 	height := 0
-	for _, entry := range t.own[p] {
+	for _, entry := range t.ownDirs[p] {
 		height = max(height, 1+t.height(p.Child(entry.Name), entry))
 	}
 	return height
@@ -127,10 +128,10 @@ func (t *Tree) put(p paths.Path, coming api.Entry) {
 	i, there := search(entries, coming.Name)
 	if there {
 		entries[i] = coming
-		delete(t.own, p)
+		t.forget(p)
 		return
 	}
-	t.own[parent] = slices.Insert(entries, i, coming)
+	t.ownDirs[parent] = slices.Insert(entries, i, coming)
 }
 
 // take lets nothing be at a path at which there is something.
@@ -138,32 +139,38 @@ func (t *Tree) take(p paths.Path) {
 	parent := p.Parent()
 	entries := t.claim(parent)
 	i, _ := search(entries, p.Name())
-	t.own[parent] = slices.Delete(entries, i, i+1)
+	t.ownDirs[parent] = slices.Delete(entries, i, i+1)
 }
 
-// carry lets the tree's own directories follow what was at from and is at to now.
-func (t *Tree) carry(from, to paths.Path) {
+// forget lets go of what was the tree's own at a path, where it is gone.
+func (t *Tree) forget(p paths.Path) {
+	delete(t.ownFiles, p)
+	delete(t.ownDirs, p)
+}
+
+// carry lets what is the tree's own follow what was at from and is at to now.
+func carry[T any](own map[paths.Path]T, from, to paths.Path) {
 	var moving []paths.Path
-	for p := range t.own {
+	for p := range own {
 		if p == from || p.Below(from) {
 			moving = append(moving, p)
 		}
 	}
 	for _, p := range moving {
-		t.own[p.Moved(from, to)] = t.own[p]
-		delete(t.own, p)
+		own[p.Moved(from, to)] = own[p]
+		delete(own, p)
 	}
 }
 
 // claim makes a directory the tree's own, and those on the way to it, and answers its entries.
 // It is asked only when all of them have been looked into in this call, so that nothing is fetched and nothing can fail any more.
 func (t *Tree) claim(p paths.Path) []api.Entry {
-	if entries, ok := t.own[p]; ok {
+	if entries, ok := t.ownDirs[p]; ok {
 		return entries
 	}
 	kept, _ := t.look(p)
 	entries := slices.Clone(kept)
-	t.own[p] = entries
+	t.ownDirs[p] = entries
 	if p == paths.Root() {
 		t.root.ID = 0
 		return entries

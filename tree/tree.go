@@ -6,6 +6,7 @@ import (
 	"strings"
 
 	"canopy/api"
+	"canopy/files"
 	"canopy/objects"
 	"canopy/paths"
 	"canopy/shelf"
@@ -18,19 +19,21 @@ type Tree struct {
 	dirs  *shelf.Shelf[[]api.Entry]
 
 	root api.Entry
-	// own holds the directories that are the tree's own, as something in them was changed: their entries by rising names.
-	// What names such a directory has the ID 0; all directories on the way to it are the tree's own, too.
-	own map[paths.Path][]api.Entry
+	// What is the tree's own is named by the ID 0, and all directories on the way to it are the tree's own, too:
+	// the files that have been opened or made, and the directories in which something has changed (their entries by rising names).
+	ownFiles map[paths.Path]*files.File
+	ownDirs  map[paths.Path][]api.Entry
 }
 
 // New makes the tree of a stored directory.
 func New(pool *objects.Pool, root api.ID) *Tree {
 	return &Tree{
-		pool:  pool,
-		files: shelf.New(pool.FetchFile),
-		dirs:  shelf.New(pool.FetchDir),
-		root:  api.Entry{Kind: api.Dir, ID: root},
-		own:   map[paths.Path][]api.Entry{},
+		pool:     pool,
+		files:    shelf.New(pool.FetchFile),
+		dirs:     shelf.New(pool.FetchDir),
+		root:     api.Entry{Kind: api.Dir, ID: root},
+		ownFiles: map[paths.Path]*files.File{},
+		ownDirs:  map[paths.Path][]api.Entry{},
 	}
 }
 
@@ -91,7 +94,7 @@ func (t *Tree) entries(p paths.Path, here api.Entry) ([]api.Entry, api.Errno) {
 		return nil, api.ErrNotDir
 	}
 	if here.ID == 0 {
-		return t.own[p], api.OK
+		return t.ownDirs[p], api.OK
 	}
 	return t.dirs.Get(here.ID)
 }
@@ -99,11 +102,19 @@ func (t *Tree) entries(p paths.Path, here api.Entry) ([]api.Entry, api.Errno) {
 // size tells how much is in what is at a path: bytes, or names.
 func (t *Tree) size(p paths.Path, here api.Entry) (int, api.Errno) {
 	if here.Kind == api.File {
-		data, e := t.files.Get(here.ID)
+		data, e := t.bytes(p, here)
 		return len(data), e
 	}
 	entries, e := t.entries(p, here)
 	return len(entries), e
+}
+
+// bytes answers what is in the file that is at a path.
+func (t *Tree) bytes(p paths.Path, here api.Entry) (string, api.Errno) {
+	if here.ID == 0 {
+		return t.ownFiles[p].Bytes()
+	}
+	return t.files.Get(here.ID)
 }
 
 // search tells where a name stands among entries, or where it would.
