@@ -11,38 +11,40 @@ import (
 
 // pair is a workspace and the model that it is held against.
 type pair struct {
-	s      *Store
-	w      *Workspace
-	m      *model
-	broken *bool // whether a Break has not come to anything yet: of all pairs of one store
-	log    []call
+	*bench
+	w   *Workspace
+	m   *model
+	log []call
 }
 
-func newPair(t *testing.T, s *Store, root api.ID, broken *bool) *pair {
+func newPair(t *testing.T, b *bench, root api.ID) *pair {
 	t.Helper()
-	m := &model{root: copyOut(t, s, dir("", root)), known: map[api.ID]bool{}}
-	return &pair{s: s, w: checkout(t, s, root), m: m, broken: broken}
+	m := &model{bench: b, base: copyOut(t, b.s, dir("", root)), root: copyOut(t, b.s, dir("", root)), known: map[api.ID]bool{}}
+	return &pair{bench: b, w: checkout(t, b.s, root), m: m}
 }
 
 func (p *pair) breakNext(t *testing.T, how int) {
 	t.Helper()
 	want(t, "Break", p.s.Break(how), api.OK)
-	*p.broken = true
+	p.broken = true
 }
 
-// call does a call and holds its answer, and what was fetched, against the model.
-func (p *pair) call(t *testing.T, c call) api.Errno {
+// call does a call and holds its answer, what was fetched, and what came into the store, against the model.
+func (p *pair) call(t *testing.T, c call) answer {
 	t.Helper()
 	p.log = append(p.log, c)
 	before := p.s.Fetched()
 	want, do := p.m.expect(c)
 	fetched := p.m.wanted
-	if *p.broken && len(fetched) > 0 {
-		*p.broken, fetched, want = false, nil, answer{e: api.ErrStore}
+	if p.broken && len(fetched) > 0 {
+		p.broken, fetched, want = false, nil, answer{e: api.ErrStore}
 	}
 	got := perform(p.w, c)
-	if got != want {
-		t.Fatalf("%+v = %+v, want %+v, after %+v", c, got, want, p.log)
+	if c.name == "Commit" && want.e == api.OK {
+		want.id = p.m.committed(t)
+	}
+	if got != want || p.s.Objects() != p.count {
+		t.Fatalf("%+v = %+v, want %+v; %d objects, want %d, after %+v", c, got, want, p.s.Objects(), p.count, p.log)
 	}
 	if now := p.s.Fetched(); !slices.Equal(now, append(before, fetched...)) {
 		t.Fatalf("%+v: fetched %v, were %v, want %v more, after %+v", c, now, before, fetched, p.log)
@@ -53,7 +55,7 @@ func (p *pair) call(t *testing.T, c call) api.Errno {
 	if got.e == api.OK {
 		do()
 	}
-	return got.e
+	return got
 }
 
 // insist does a call again and again, each time with one of its fetches failing that has not failed yet.
@@ -61,7 +63,7 @@ func (p *pair) insist(t *testing.T, c call) {
 	t.Helper()
 	for i, step := range append(heads(c.path), heads(c.to)...) {
 		p.breakNext(t, 1+i%2)
-		if p.call(t, c) != api.ErrStore {
+		if p.call(t, c).e != api.ErrStore {
 			return
 		}
 		p.call(t, at("Stat", step))
@@ -87,15 +89,18 @@ func (p *pair) walk(t *testing.T, path string, x *thing) {
 	for _, name := range x.names() {
 		p.walk(t, strings.TrimPrefix(path+"/"+name, "/"), x.inner[name])
 	}
-	if number := slices.Index(p.m.open[:], nil); x.inner == nil && p.call(t, opening(path, api.Read)) == api.OK {
+	if number := slices.Index(p.m.open[:], nil); x.inner == nil && p.call(t, opening(path, api.Read)).e == api.OK {
 		p.call(t, reading(number, 300))
 		p.call(t, onFile("Close", number, 0))
 	}
 }
 
-// finish looks at all that is open, and at all that is there.
+// finish looks at what has changed, commits it, and looks at all that is open, and at all that is there; then at what was committed.
 func (p *pair) finish(t *testing.T) {
 	t.Helper()
+	p.call(t, at("Status", ""))
+	got := p.call(t, at("Commit", ""))
+	p.call(t, at("Status", ""))
 	for number := range 8 {
 		p.call(t, reading(number, 1))
 		p.call(t, onFile("Seek", number, 0))
@@ -103,6 +108,11 @@ func (p *pair) finish(t *testing.T) {
 		p.call(t, onFile("Close", number, 0))
 	}
 	p.walk(t, "", p.m.root)
+	if got.e == api.OK {
+		again := newPair(t, p.bench, got.id)
+		again.walk(t, "", p.m.root)
+		again.call(t, at("Status", ""))
+	}
 }
 
 // dice: numbers that are the same in every run.
@@ -172,9 +182,12 @@ func someCall(d *dice, m *model) call {
 	names := []string{
 		"Stat", "List", "Mkdir", "Mkdir", "Remove", "Rename", "Rename", "Rename",
 		"Open", "Open", "Open", "Read", "Read", "Write", "Write", "Seek", "Resize", "Close",
+		"Status", "Commit",
 	}
 	c := call{name: names[d.roll(len(names))]}
 	switch c.name {
+	case "Status", "Commit":
+		return c
 	case "Rename":
 		c.path, c.to = somePath(d, m.root), somePath(d, m.root)
 	case "Stat", "List", "Mkdir", "Remove":
@@ -195,37 +208,44 @@ func someCall(d *dice, m *model) call {
 	return c
 }
 
-// P3, P6 to P12, P15: workspaces of one store, with failing fetches in between, answer what a tree would that had been copied out whole, and fetch just what is wanted, once.
+// P3, P6 to P15: workspaces of one store, with failing fetches in between, answer what a tree would that had been copied out whole, and fetch just what is wanted, once; commits bring just what is new, as long as there is room.
 func TestModelRandom(t *testing.T) {
 	for seed := range 300 {
 		d := dice(seed)
 		s, roots := someStore(t, &d, []int{4, 20, 1000}[seed%3])
-		stored := everything(s)
-		broken := false
+		if seed%4 == 0 {
+			fill(t, s, 400-d.roll(100))
+		}
+		objects := s.Objects()
+		stored := everything(s, objects)
+		b := newBench(t, s)
 		var all []*pair
 		for range 3 {
-			all = append(all, newPair(t, s, roots[d.roll(len(roots))], &broken))
+			all = append(all, newPair(t, b, roots[d.roll(len(roots))]))
 		}
 		for range 500 {
-			p := all[d.roll(len(all))]
+			i := d.roll(len(all))
 			if d.roll(3) == 0 {
-				p.breakNext(t, 1+d.roll(2))
+				all[i].breakNext(t, 1+d.roll(2))
 			}
-			p.call(t, someCall(&d, p.m))
+			got := all[i].call(t, someCall(&d, all[i].m))
+			if got.id != 0 && d.roll(2) == 0 {
+				all[i] = newPair(t, b, got.id)
+			}
 		}
 		for _, p := range all {
 			p.finish(t)
 		}
-		if now := everything(s); now != stored {
+		if now := everything(s, objects); now != stored {
 			t.Errorf("the store became %q, was %q", now, stored)
 		}
 	}
 }
 
-// everything tells all that is in a store, as one text.
-func everything(s *Store) string {
+// everything tells the first n objects of a store, as one text.
+func everything(s *Store, n int) string {
 	var all strings.Builder
-	for id := range api.ID(s.Objects() + 2) {
+	for id := range api.ID(n + 1) {
 		data, e := s.GetFile(id)
 		l, f := s.GetDir(id)
 		fmt.Fprintln(&all, id, data, e, l, f)
@@ -269,13 +289,13 @@ func TestModelEveryPath(t *testing.T) {
 		}
 		for _, c := range calls {
 			s, root := severalStore(t)
-			broken := false
+			b := newBench(t, s)
 			for _, do := range []func(*pair){
 				func(p *pair) { p.call(t, c) },
 				func(p *pair) { p.insist(t, c) },
 				func(p *pair) { p.insist(t, c); p.insist(t, c) },
 			} {
-				p := newPair(t, s, root, &broken)
+				p := newPair(t, b, root)
 				do(p)
 				p.finish(t)
 			}
@@ -314,7 +334,7 @@ func againstModel(t *testing.T, setup, calls []call) {
 	t.Helper()
 	for _, c := range calls {
 		s, _, _, r := document(t)
-		p := newPair(t, s, r, new(bool))
+		p := newPair(t, newBench(t, s), r)
 		for _, before := range setup {
 			p.call(t, before)
 		}

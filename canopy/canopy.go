@@ -161,7 +161,7 @@ func (w *Workspace) Resize(file int, size int) api.Errno {
 func (w *Workspace) Close(file int) api.Errno { return w.open.Close(file) }
 
 // Status tells what has become of the files (P13).
-func (w *Workspace) Status() ([]api.Change, api.Errno) { return nil, api.OK }
+func (w *Workspace) Status() ([]api.Change, api.Errno) { return w.tree.Status() }
 
 // Commit puts the tree into the store (P14).
-func (w *Workspace) Commit() (api.ID, api.Errno) { return 0, api.OK }
+func (w *Workspace) Commit() (api.ID, api.Errno) { return w.tree.Commit() }

@@ -217,14 +217,21 @@ func TestP2TextsIn(t *testing.T) {
 	}
 	want(t, "Resize", w.Resize(1, 3), api.OK)
 	want(t, "Write", w.Write(1, lend("")), api.OK)
+	committed := wantCommit(t, w)
 	for _, memory := range lent {
 		clear(memory)
 	}
+	wantStatus(t, w, changes("-a", "+d/k/b", "+d/m", "+n")...)
 	wantList(t, w, "", "d", "f", "n")
 	wantList(t, w, "d", "k", "m")
 	wantList(t, w, "d/k", "b")
+	v := checkout(t, s, committed)
 	for path, bytes := range map[string]string{"f": "file", "n": "written", "d/m": "wri", "d/k/b": "written"} {
 		wantFile(t, w, path, bytes)
+		wantFile(t, v, path, bytes)
+	}
+	if id := wantCommit(t, w); id != committed {
+		t.Errorf("Commit() = %d, want %d", id, committed)
 	}
 	if l := getDir(t, s, r); !slices.Equal(l, []api.Entry{file("a", a), dir("d", l[1].ID), file("f", l[2].ID)}) {
 		t.Errorf("the stored directory: %v", l)

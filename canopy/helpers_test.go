@@ -170,6 +170,61 @@ func wantFile(t *testing.T, w *Workspace, path string, data string) {
 	want(t, "Close", w.Close(number), api.OK)
 }
 
+// putAt lets a file with these bytes be at a path, and the directories on the way to it.
+func putAt(t *testing.T, w *Workspace, path, data string) {
+	t.Helper()
+	for i := range path {
+		if path[i] == '/' {
+			w.Mkdir(path[:i])
+		}
+	}
+	number, e := w.Open(path, api.Write+api.Create+api.Truncate)
+	want(t, "Open of "+path, e, api.OK)
+	want(t, "Write", w.Write(number, data), api.OK)
+	want(t, "Close", w.Close(number), api.OK)
+}
+
+// changes makes a list of changes of paths behind a sign: + for Added, * for Changed, - for Deleted.
+func changes(signed ...string) []api.Change {
+	var l []api.Change
+	for _, path := range signed {
+		what := map[byte]int{'+': 1, '*': 2, '-': 3}[path[0]]
+		l = append(l, api.Change{Path: path[1:], What: what})
+	}
+	return l
+}
+
+func wantStatus(t *testing.T, w *Workspace, l ...api.Change) {
+	t.Helper()
+	if got, e := w.Status(); !slices.Equal(got, l) || e != api.OK {
+		t.Errorf("Status() = %v, %d, want %v", got, e, l)
+	}
+}
+
+func wantCommit(t *testing.T, w *Workspace) api.ID {
+	t.Helper()
+	id, e := w.Commit()
+	if id < 1 || e != api.OK {
+		t.Errorf("Commit() = %d, %d", id, e)
+	}
+	return id
+}
+
+// refuseStatus and refuseCommit want an error, and nothing beside it.
+func refuseStatus(t *testing.T, w *Workspace, want api.Errno) {
+	t.Helper()
+	if l, e := w.Status(); len(l) != 0 || e != want {
+		t.Errorf("Status() = %v, %d, want error %d", l, e, want)
+	}
+}
+
+func refuseCommit(t *testing.T, w *Workspace, want api.Errno) {
+	t.Helper()
+	if id, e := w.Commit(); id != 0 || e != want {
+		t.Errorf("Commit() = %d, %d, want error %d", id, e, want)
+	}
+}
+
 // refuseOpen and refuseRead want an error, and nothing beside it.
 func refuseOpen(t *testing.T, w *Workspace, path string, flags int, want api.Errno) {
 	t.Helper()

@@ -58,6 +58,8 @@ func copyOut(t *testing.T, s *Store, entry api.Entry) *thing {
 
 // model tells what a workspace must answer, and what it must have fetched for that.
 type model struct {
+	bench  *bench
+	base   *thing // stays as it was copied out
 	root   *thing
 	open   [8]*hand
 	known  map[api.ID]bool // fetched by calls ahead
@@ -79,11 +81,13 @@ func onFile(name string, file, n int) call { return call{name: name, file: file,
 
 // answer is what a call answers, in one value that can be compared.
 type answer struct {
-	info  api.Info
-	names string
-	file  int
-	data  string
-	e     api.Errno
+	info    api.Info
+	names   string
+	file    int
+	data    string
+	changes string
+	id      api.ID
+	e       api.Errno
 }
 
 func perform(w *Workspace, c call) answer {
@@ -113,8 +117,24 @@ func perform(w *Workspace, c call) answer {
 		a.e = w.Resize(c.file, c.n)
 	case "Close":
 		a.e = w.Close(c.file)
+	case "Status":
+		var l []api.Change
+		l, a.e = w.Status()
+		a.changes = tell(l)
+	case "Commit":
+		a.id, a.e = w.Commit()
 	}
 	return a
+}
+
+// performAll wants calls to be done without an error.
+func performAll(t *testing.T, w *Workspace, calls []call) {
+	t.Helper()
+	for _, c := range calls {
+		if got := perform(w, c); got.e != api.OK {
+			t.Errorf("%+v, of %+v, = %+v", c, calls, got)
+		}
+	}
 }
 
 // expect tells what the call must answer, and what is to be done to the model if it does so.
@@ -139,6 +159,10 @@ func (m *model) expect(c call) (answer, func()) {
 		a.e, do = m.rename(path, to)
 	case c.name == "Open":
 		a, do = m.opened(path, c.n)
+	case c.name == "Status":
+		a = m.status()
+	case c.name == "Commit":
+		a.e = m.commit()
 	case c.file < 0 || c.file > 7 || m.open[c.file] == nil:
 		a.e = api.ErrFile
 	case c.name == "Read":

@@ -27,7 +27,7 @@ func TestExample2(t *testing.T) {
 	}
 }
 
-// The fourth of the document's examples, as far as it speaks of what stands in the tree.
+// The fourth of the document's examples.
 func TestExample4(t *testing.T) {
 	s, _, _, r := document(t)
 	w := checkout(t, s, r)
@@ -38,6 +38,7 @@ func TestExample4(t *testing.T) {
 	wantList(t, w, "", "a", "e")
 	wantList(t, w, "e")
 	wantStat(t, w, "a", api.File, 3)
+	wantStatus(t, w, changes("-d/x")...)
 }
 
 // P1: no text makes a call of a workspace panic; what is no path is ErrPath everywhere, ahead of everything else.

@@ -19,6 +19,9 @@ func Stored(stored *shelf.Shelf[string], id api.ID) *File { return &File{stored:
 // Empty makes a file without bytes.
 func Empty() *File { return &File{} }
 
+// Object answers the object whose bytes the file has; 0: its bytes are its own.
+func (f *File) Object() api.ID { return f.id }
+
 // Bytes answers what is in the file.
 func (f *File) Bytes() (string, api.Errno) {
 	if f.id == 0 {

@@ -59,6 +59,23 @@ func TestFileFetches(t *testing.T) {
 	wantBytes(t, Stored(stored, 7), "abc")
 }
 
+// P14: a file is an object's until its bytes are its own.
+func TestFileObject(t *testing.T) {
+	var fetches int
+	var broken bool
+	f := Stored(shelfOf("abc", &fetches, &broken), 7)
+	if id := f.Object(); id != 7 || fetches != 0 {
+		t.Errorf("Object() = %d, %d fetches", id, fetches)
+	}
+	wantBytes(t, f, "abc")
+	if id := f.Object(); id != 7 {
+		t.Errorf("Object() = %d", id)
+	}
+	if e := f.Write(0, "x"); e != api.OK || f.Object() != 0 || Empty().Object() != 0 {
+		t.Errorf("Write = %d; Object() = %d", e, f.Object())
+	}
+}
+
 // P3: with a failing fetch nothing changes.
 func TestFileFails(t *testing.T) {
 	var fetches int

@@ -35,6 +35,9 @@ func Parse(text string) (Path, api.Errno) {
 	return p, api.OK
 }
 
+// Text answers the text that tells the path.
+func (p Path) Text() string { return strings.Join(p[:p.Depth()], "/") }
+
 // Depth tells how deep the path leads: how many names it has.
 func (p Path) Depth() int {
 	for i, name := range p {

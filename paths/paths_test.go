@@ -20,8 +20,8 @@ func TestParse(t *testing.T) {
 	for text, want := range map[string]Path{
 		"": {}, "a": {"a"}, "a/b": {"a", "b"}, "a/b/c/d/e": {"a", "b", "c", "d", "e"}, "twelve.bytes/.../ /\xff": {"twelve.bytes", "...", " ", "\xff"},
 	} {
-		if p := parse(t, text); p != want {
-			t.Errorf("Parse(%q) = %q, want %q", text, p, want)
+		if p := parse(t, text); p != want || p.Text() != text {
+			t.Errorf("Parse(%q) = %q, want %q; its text is %q", text, p, want, p.Text())
 		}
 	}
 	for _, text := range []string{

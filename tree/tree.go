@@ -18,6 +18,7 @@ type Tree struct {
 	files *shelf.Shelf[string]
 	dirs  *shelf.Shelf[[]api.Entry]
 
+	base api.ID // the object of the directory that the tree was at first
 	root api.Entry
 	// What is the tree's own is named by the ID 0, and all directories on the way to it are the tree's own, too:
 	// the files that have been opened or made, and the directories in which something has changed (their entries by rising names).
@@ -31,6 +32,7 @@ func New(pool *objects.Pool, root api.ID) *Tree {
 		pool:     pool,
 		files:    shelf.New(pool.FetchFile),
 		dirs:     shelf.New(pool.FetchDir),
+		base:     root,
 		root:     api.Entry{Kind: api.Dir, ID: root},
 		ownFiles: map[paths.Path]*files.File{},
 		ownDirs:  map[paths.Path][]api.Entry{},
